@@ -1,0 +1,1 @@
+"""Pointsure: what every name of a program may point to, told with papers."""
