@@ -1,19 +1,8 @@
-"""The forms of things, names and facts, with their calls [12], and how lists of them are told [14].
+"""The forms of things, names and facts [12], and how lists of them are told [14].
 
 All forms are tuples. Their first words differ wherever the kinds of the later places differ,
 so any two facts, and any two instances, can be compared as they are.
 """
-
-
-def cut_calls(calls, fineness):
-    """The last rows of the calls, as many as the fineness, or all where there are fewer."""
-    # calls[-fineness:] would leave all of them where the fineness is 0.
-    return tuple(calls[max(0, len(calls) - fineness):])
-
-
-def calls_behind(calls, row, fineness):
-    """The calls of a body that is called by the row, in a body that was called so."""
-    return cut_calls(tuple(calls) + (row,), fineness)
 
 
 def thing_at(row, calls):

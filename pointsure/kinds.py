@@ -1,7 +1,7 @@
 """What a program tells of its kinds, and in the heads of its bodies [8].
 
 Nothing but shown() is asked of a program. Its text is read at each question,
-so every list that is told is new; who asks often keeps the answers himself.
+so every list that is told is new; who asks often keeps the tables himself.
 """
 
 
@@ -17,47 +17,68 @@ def elder_of(program, kind):
 
 def fields_of(program, kind):
     """The fields of the kind: those of the eldest first, its own last."""
-    table = kind_table(program)
+    return fields_by(kind_table(program), kind)
+
+
+def finds(program, kind, method):
+    """The body that the kind finds by the method's name, or None."""
+    return found_by(kind_table(program), body_heads(program), kind, method)
+
+
+def params_of(program, body):
+    """The names of the body's parameters; `self` is none of them."""
+    return head_params(body_heads(program)[body])
+
+
+def kept_of(program, body):
+    """The names that the body keeps: none, but for functions."""
+    return head_kept(body_heads(program)[body])
+
+
+def fields_by(table, kind):
+    """The fields of the kind, by the table of the kinds."""
     fields = []
     for one in reversed(kind_and_elders(table, kind)):
         fields.extend(table[one][1])
     return fields
 
 
-def finds(program, kind, method):
-    """The body that the kind finds by the method's name, or None."""
-    heads = body_heads(program)
-    for one in kind_and_elders(kind_table(program), kind):
+def found_by(table, heads, kind, method):
+    """The body that the kind finds, or None, by the tables of the kinds and of the bodies' heads."""
+    for one in kind_and_elders(table, kind):
         body = method_body(one, method)
         if body in heads:
             return body
     return None
 
 
-def params_of(program, body):
-    """The names of the body's parameters; `self` is none of them."""
-    head = body_heads(program)[body]
+def head_params(head):
+    """The parameters that the row of these words tells."""
     # In a method's row the word keeps is a parameter like others.
     if head[0] == "method":
-        return head[3:]
-    names = head[2:]
+        return list(head[3:])
+    names = list(head[2:])
     if "keeps" in names:
         return names[:names.index("keeps")]
     return names
 
 
-def kept_of(program, body):
-    """The names that the body keeps: none, but for functions."""
-    head = body_heads(program)[body]
+def head_kept(head):
+    """The kept names that the row of these words tells."""
     if head[0] != "func" or "keeps" not in head[2:]:
         return []
-    names = head[2:]
+    names = list(head[2:])
     return names[names.index("keeps") + 1:]
 
 
 def method_body(kind, method):
     """The text by which a kind's own method is told."""
     return f"{kind}.{method}"
+
+
+def is_method_body(body):
+    """Whether the text tells a method: no function is called with this sign."""
+    return "." in body
 
 
 def head_body(head):

@@ -2,7 +2,7 @@ import itertools
 import unittest
 
 from pointsure.facts import (
-    calls_behind, cut_calls, each_name, field_name, given_name, goes_fact, holds_fact,
+    each_name, field_name, given_name, goes_fact, holds_fact,
     kept_name, local_name, own_field, reach_fact, sorted_once, thing_at)
 
 # All forms of point 12, written out, as they stand when sorted.
@@ -60,8 +60,7 @@ class FormsTest(unittest.TestCase):
         calls = [2, 4]
         made = [
             thing_at(1, calls), local_name("f", calls, "x"), given_name("f", calls), field_name(1, calls, "f"),
-            each_name(1, calls), kept_name(1, calls, "k"), reach_fact("f", calls), goes_fact(1, calls, "f", calls),
-            cut_calls(calls, 2), calls_behind(calls, 5, 3)]
+            each_name(1, calls), kept_name(1, calls, "k"), reach_fact("f", calls), goes_fact(1, calls, "f", calls)]
         before = list(made)
         self.assertEqual(calls, [2, 4])
         calls.append(6)
@@ -70,32 +69,6 @@ class FormsTest(unittest.TestCase):
         self.assertEqual(made[7], ("goes", 1, (2, 4), "f", (2, 4)))
         for one in made:
             hash(one)
-
-
-class CallsTest(unittest.TestCase):
-    def test_cut_leaves_the_last_rows(self):
-        self.assertEqual(cut_calls((2, 4, 6), 2), (4, 6))
-        self.assertEqual(cut_calls((2, 4, 6), 1), (6,))
-
-    def test_cut_to_nothing(self):
-        self.assertEqual(cut_calls((2, 4, 6), 0), ())
-        self.assertEqual(cut_calls((), 0), ())
-
-    def test_cut_leaves_all_where_there_are_no_more(self):
-        self.assertEqual(cut_calls((2, 4), 2), (2, 4))
-        self.assertEqual(cut_calls((2, 4), 3), (2, 4))
-        self.assertEqual(cut_calls((), 2), ())
-        self.assertEqual(cut_calls((2,), 1000), (2,))
-
-    def test_the_calling_row_comes_last(self):
-        self.assertEqual(calls_behind((), 7, 2), (7,))
-        self.assertEqual(calls_behind((3,), 7, 2), (3, 7))
-        self.assertEqual(calls_behind((3, 5), 7, 2), (5, 7))
-        self.assertEqual(calls_behind((3,), 7, 1), (7,))
-        self.assertEqual(calls_behind((), 7, 0), ())
-
-    def test_a_row_that_calls_again_stands_again(self):
-        self.assertEqual(calls_behind((7,), 7, 2), (7, 7))
 
 
 class SortedOnceTest(unittest.TestCase):

@@ -1,19 +1,14 @@
 import unittest
 
 from pointsure.kinds import elder_of, fields_of, finds, kept_of, kind_names, params_of
+from pointsure.programs import Program
 
 
-class TextProgram:
-    """What the kinds ask of a program: its text."""
-
-    def __init__(self, rows):
-        self.rows = rows
-
-    def shown(self):
-        return "\n".join(self.rows)
+def program_of(rows):
+    return Program("\n".join(rows))
 
 
-FOREST = TextProgram([
+FOREST = program_of([
     "kind tree fields right left",
     "kind stone",
     "kind leaf of tree fields seed",
@@ -56,7 +51,7 @@ FOREST = TextProgram([
 ])
 
 # Words of the language as names: they are told apart by their place alone.
-WORDS = TextProgram([
+WORDS = program_of([
     "kind of fields of fields",
     "kind fields of of fields kind",
     "kind kind of fields",
@@ -86,7 +81,7 @@ WORDS = TextProgram([
     "end",
 ])
 
-BARE = TextProgram(["main", "end"])
+BARE = program_of(["main", "end"])
 
 
 class KindsTest(unittest.TestCase):
@@ -132,7 +127,7 @@ class KindsTest(unittest.TestCase):
         rows = ["kind a fields fa"]
         for elder, kind in zip(letters, letters[1:]):
             rows.append(f"kind {kind} of {elder} fields f{kind}")
-        program = TextProgram(rows + ["method a get", "end", "main", "end"])
+        program = program_of(rows + ["method a get", "end", "main", "end"])
         self.assertEqual(kind_names(program), list(letters))
         self.assertEqual(fields_of(program, "p"), ["f" + kind for kind in letters])
         self.assertEqual(finds(program, "p", "get"), "a.get")
@@ -163,7 +158,7 @@ class FindsTest(unittest.TestCase):
         self.assertIsNone(finds(FOREST, "stone", "nothing"))
 
     def test_a_younger_kinds_method_is_not_found(self):
-        program = TextProgram(["kind a", "kind b of a", "method b get", "end", "main", "end"])
+        program = program_of(["kind a", "kind b of a", "method b get", "end", "main", "end"])
         self.assertIsNone(finds(program, "a", "get"))
         self.assertEqual(finds(program, "b", "get"), "b.get")
 
@@ -218,7 +213,7 @@ class HeadsTest(unittest.TestCase):
         self.assertEqual(kept_of(WORDS, "kind"), [])
 
     def test_a_function_called_keeps_may_keep_nothing(self):
-        program = TextProgram(["func keeps a", "end", "main", "end"])
+        program = program_of(["func keeps a", "end", "main", "end"])
         self.assertEqual(params_of(program, "keeps"), ["a"])
         self.assertEqual(kept_of(program, "keeps"), [])
 
@@ -230,7 +225,7 @@ class HeadsTest(unittest.TestCase):
 
     def test_eight_ifs_within_one_another(self):
         rows = ["func f a"] + ["if choose"] * 8 + ["func g f"] + ["end"] * 9
-        program = TextProgram(rows + ["func g b keeps c", "end", "main", "end"])
+        program = program_of(rows + ["func g b keeps c", "end", "main", "end"])
         self.assertEqual(params_of(program, "f"), ["a"])
         self.assertEqual(params_of(program, "g"), ["b"])
         self.assertEqual(kept_of(program, "g"), ["c"])
@@ -272,8 +267,8 @@ class OwnListsTest(unittest.TestCase):
         self.assertEqual(fields_of(FOREST, "bud"), ["right", "left", "seed"])
 
     def test_programs_do_not_mix(self):
-        one = TextProgram(["kind a fields x", "func f p", "end", "main", "end"])
-        other = TextProgram(["kind a fields y", "func f q keeps k", "end", "main", "end"])
+        one = program_of(["kind a fields x", "func f p", "end", "main", "end"])
+        other = program_of(["kind a fields y", "func f q keeps k", "end", "main", "end"])
         told = [fields_of(one, "a"), params_of(one, "f"), kept_of(one, "f")]
         self.assertEqual([fields_of(other, "a"), params_of(other, "f"), kept_of(other, "f")], [["y"], ["q"], ["k"]])
         self.assertEqual(told, [["x"], ["p"], []])
