@@ -181,6 +181,19 @@ def error_faults(tree):
     return faults
 
 
+def target_faults(tree):
+    """A value is given through a local name: no call stands ahead of what is stored to."""
+    faults = []
+    for node in ast.walk(tree):
+        if isinstance(node, (ast.Attribute, ast.Subscript)) and isinstance(node.ctx, ast.Store):
+            root = node.value
+            while isinstance(root, (ast.Attribute, ast.Subscript)):
+                root = root.value
+            if not isinstance(root, ast.Name):
+                faults.append(f"L18 line {node.lineno}: {ast.unparse(node)}")
+    return faults
+
+
 def init_faults(tree):
     faults = []
     for node in ast.walk(tree):
@@ -225,7 +238,7 @@ def whole_faults(texts):
     for name, tree in package.trees.items():
         told = method_faults(package, tree) + local_faults(tree) + import_faults(package, tree) + loop_faults(tree)
         told += call_faults(tree) + builtin_value_faults(tree) + error_faults(tree) + init_faults(tree)
-        told += annotation_faults(tree) + top_use_faults(tree) + unused_faults(tree)
+        told += target_faults(tree) + annotation_faults(tree) + top_use_faults(tree) + unused_faults(tree)
         faults += [f"{name}: {one}" for one in told]
     return faults
 
@@ -259,6 +272,7 @@ WRONG = [
     {"a": "A = {}\n\n\ndef f(c):\n    A[c] = c\n"},
     {"a": "A = {}\n\n\ndef f(c):\n    return A\n"},
     {"a": "A = {}\n\n\ndef f(c):\n    return f(A)\n"},
+    {"a": KEPT + "\n\ndef f(c):\n    f(c).a = 1\n"},
     {"a": "A = []\n\n\ndef f(c):\n    A.append(c)\n"},
 ]
 
