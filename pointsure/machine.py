@@ -55,12 +55,8 @@ class Machine:
             told.append((thing.row, thing.form, held))
         return told
 
-    def call_paths(self):
-        """Of each call that stands, the rows at which the calls beneath it wait."""
-        return [call.path for call in self.state.stack]
-
     def thing_paths(self):
-        """Of each thing, by its number, the same of the call that made it, as it was then."""
+        """Of each thing, by its number, the rows at which the calls beneath the one that made it waited then."""
         return [thing.path for thing in self.state.made]
 
 
