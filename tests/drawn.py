@@ -14,6 +14,9 @@ KINDS = ["tree", "leaf", "of", "end"]
 FIELDS = ["f", "g", "fields", "end"]
 METHODS = ["get", "set", "main", "keeps"]
 FUNCTIONS = ["pair", "join", "rest"]
+# Names that tame programs use for little, and the place of Y in the rows that need one.
+LONE = ["sa", "sb", "sc"]
+ASKED = {"take": 2, "put": 1, "check": 1, "push": 1, "pull": 2, "do": 2, "ask": 2, "straight": 2, "own": 2, "place": 1}
 
 
 class Draw:
@@ -36,6 +39,9 @@ class Draw:
 
     def any_name(self):
         return self.one(RECORDS + RECORDS + LISTS + FUNCS + ["x"])
+
+    def field(self):
+        return self.one(self.fields[self.one(self.kinds)] + FIELDS[:1])
 
     def kind_rows(self):
         rows = []
@@ -80,7 +86,7 @@ class Draw:
         word = self.one("new new row func copy take take put put push pull pull do do ask ask ask straight give tell tell"
                         " rest check fresh own place place copy".split())
         record = self.name(RECORDS + ["self"])
-        field = self.one(self.fields[self.one(self.kinds)] + FIELDS[:1])
+        field = self.field()
         if word in ("new", "fresh"):
             return [word, self.name(RECORDS if word == "new" else MARKS), self.one(self.kinds)]
         if word == "row":
@@ -138,8 +144,11 @@ class Draw:
                     rows += ["else"] + self.block(self.chance.randint(0, 3), depth + 1)
                 rows.append("end")
             else:
-                rows.append(" ".join(self.plain_row()))
+                rows += self.guarded(self.plain_row())
         return rows
+
+    def guarded(self, words):
+        return [" ".join(words)]
 
     def opening(self):
         """Rows that make something of each sort, so that a run comes further."""
@@ -156,6 +165,12 @@ class Draw:
             rows.append(f"fresh {name} {self.one(self.kinds)}")
         return [row for row in rows if self.chance.random() < 0.8]
 
+    def few_rows(self):
+        return self.chance.sample(self.opening(), 2)
+
+    def ending(self):
+        return []
+
     def text(self):
         rows = self.kind_rows()
         for head in self.heads():
@@ -163,14 +178,104 @@ class Draw:
             if head == "main":
                 rows += self.opening()
             elif self.chance.random() < 0.6:
-                rows += self.chance.sample(self.opening(), 2)
+                rows += self.few_rows()
             least = self.many // 2 if head == "main" else 0
-            rows += self.block(self.chance.randint(least, least + self.many), 0)
+            rows += self.block(self.chance.randint(least, least + self.many), 0) + self.ending()
             rows.append("end")
         return "\n".join(rows)
 
     def inputs(self):
         return [self.chance.choice([0, 0, 1, -2]) for number in range(self.chance.randint(0, 12))]
+
+
+class TameDraw(Draw):
+    """Programs that mostly run on: all kinds have the first one's fields and methods, records alone are held by names
+    that are asked, rows that need a value ask for it first. Some names are made once in a body and little used."""
+
+    def __init__(self, seed, many=14, wild=0.0):
+        Draw.__init__(self, seed, many, wild)
+        self.counts = {method: self.chance.randint(0, 2) for method in METHODS}
+        self.taken = FIELDS[:self.chance.randint(1, 3)]
+
+    def any_name(self):
+        return self.one(RECORDS)
+
+    def field(self):
+        return self.one(self.fields[KINDS[0]])
+
+    def kind_rows(self):
+        rows = []
+        for kind in KINDS[:self.chance.randint(2, 4)]:
+            elder = self.one(self.kinds) if self.kinds else None
+            fields = list(self.fields[elder]) if elder else []
+            own = [field for field in FIELDS if field not in fields and (elder is None or self.chance.random() < 0.3)]
+            if elder is None:
+                own = own[:self.chance.randint(2, 4)]
+            rows.append(f"kind {kind}" + (f" of {elder}" if elder else "") + (" fields " + " ".join(own) if own else ""))
+            self.kinds.append(kind)
+            self.fields[kind] = fields + own
+        return rows
+
+    def heads(self):
+        heads = []
+        for name in FUNCTIONS[:self.chance.randint(1, 3)]:
+            names = self.chance.sample(RECORDS, self.chance.randint(1, 3))
+            self.functions[name] = (names[:1], names[1:])
+            heads.append(" ".join(["func", name] + names[:1] + (["keeps"] + names[1:] if names[1:] else [])))
+        for kind in self.kinds:
+            for method in METHODS:
+                if kind == KINDS[0] or self.chance.random() < 0.4:
+                    params = self.chance.sample(RECORDS, self.counts[method])
+                    self.methods[(kind, method)] = params
+                    heads.append(" ".join(["method", kind, method] + params))
+        self.chance.shuffle(heads)
+        return heads + ["main"]
+
+    def lone_row(self):
+        """A row of a name that is made once in the body; now and then it is used like any other one."""
+        name = self.one(LONE)
+        word = self.one(["take", "put", "put", "tell", "take"])
+        if self.chance.random() < 0.04:
+            return self.one([["copy", self.one(RECORDS), name], ["copy", name, self.one(RECORDS)], ["give", name]])
+        if word == "take":
+            return [word, self.one(RECORDS), name, self.field()]
+        return ["put", name, self.field(), self.one(RECORDS)] if word == "put" else [word, name]
+
+    def plain_row(self):
+        if self.chance.random() < 0.25:
+            return self.lone_row()
+        row = Draw.plain_row(self)
+        # Some rows are drawn once more where they call nothing or end the call, so that there are many calls.
+        if row[0] not in ("do", "ask", "straight") and self.chance.random() < 0.4 or row[0] == "give":
+            row = Draw.plain_row(self)
+        if row[0] == "take":
+            row[3] = self.one([field for field in self.taken if field in self.fields[KINDS[0]]])
+        return row
+
+    def guarded(self, words):
+        asked = ASKED.get(words[0])
+        if asked and self.chance.random() < 0.97:
+            return [f"if some {words[asked]}", " ".join(words), "end"]
+        return [" ".join(words)]
+
+    def lone_opening(self):
+        return [f"new {name} {self.one(self.kinds)}" for name in LONE if self.chance.random() < 0.6]
+
+    def opening(self):
+        return Draw.opening(self) + self.lone_opening()
+
+    def few_rows(self):
+        return Draw.few_rows(self) + self.lone_opening()
+
+    def condition(self):
+        return ["choose"] if self.chance.random() < 0.6 else Draw.condition(self)
+
+    def ending(self):
+        return [f"give {self.one(RECORDS)}"] if self.chance.random() < 0.6 else []
+
+
+def tame_text(seed, many=14):
+    return TameDraw(seed, many).text()
 
 
 def drawn_text(seed, many=14, wild=0.1):

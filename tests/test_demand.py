@@ -240,13 +240,16 @@ class PartsTest(unittest.TestCase):
         for seed in range(30):
             program = read_program(drawn_text(seed))
             wants = sorted({want_of(fact) for fact in Told(program).facts()})[::5]
+            hangs = {}
             for want in wants:
                 part = part_of(program, want)
                 self.assertEqual(part, sorted(set(part)))
                 self.assertTrue(is_part(program, part))
                 grown = {want}
                 while True:
-                    more = {one for old in grown for one in hangs_on(program, old)} - grown
+                    # Asked once of each want: to ask anew in each round would take most of the test's time.
+                    hangs.update((old, hangs_on(program, old)) for old in grown if old not in hangs)
+                    more = {one for old in grown for one in hangs[old]} - grown
                     if not more:
                         break
                     grown |= more
