@@ -5,6 +5,7 @@ from pointsure.facts import (
     each_name, field_name, goes_fact, holds_fact, kept_name, local_name, reach_fact, sorted_once, thing_at)
 from pointsure.outline import Outline
 from pointsure.rules import instances_by, lacking
+from pointsure.tables import known_of
 
 
 def is_closed(program, fineness, facts):
@@ -15,9 +16,7 @@ def is_closed(program, fineness, facts):
 def is_paper(program, fineness, paper, granted):
     """Whether each instance of the paper is one by its uses, which are granted or heads ahead, no head twice."""
     outline = Outline(program)
-    known = {}
-    for fact in granted:
-        known[fact] = True
+    known = known_of(granted)
     heads = {}
     for head, number, uses in paper:
         if head in heads or not all([use in known for use in uses]):

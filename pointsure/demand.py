@@ -7,6 +7,7 @@ from pointsure.outline import Outline
 from pointsure.rows import CALLERS, given_name_of
 from pointsure.rules import first_instance
 from pointsure.solver import Growth
+from pointsure.tables import known_of
 
 
 def want_of(fact):
@@ -36,9 +37,7 @@ def part_of(program, want):
 def is_part(program, wants):
     """Whether each of the wants has all that it hangs on among them."""
     outline = Outline(program)
-    known = {}
-    for want in wants:
-        known[want] = True
+    known = known_of(wants)
     for want in known:
         if not all([one in known for one in wants_under(outline, want)]):
             return False

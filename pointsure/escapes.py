@@ -3,6 +3,7 @@
 from pointsure.kinds import is_method_body
 from pointsure.outline import Outline
 from pointsure.rows import MAKERS
+from pointsure.tables import add_to, known_of
 
 
 def out_of(program, facts, body):
@@ -20,9 +21,7 @@ def out_of(program, facts, body):
 
 def is_out(program, facts, body, rows):
     """Whether the rows are an out of the body: they have its first places, and with each all that it leads to."""
-    known = {}
-    for number in rows:
-        known[number] = True
+    known = known_of(rows)
     ways = places_within(facts)
     needed = first_places(Outline(program), facts, body)
     for place in known:
@@ -33,7 +32,8 @@ def is_out(program, facts, body, rows):
 def stays_by(program, body, rows):
     """The rows that make, stand in the body and are not in this list, rising."""
     outline = Outline(program)
-    return [number for number in making_rows(outline) if outline.homes[number] == body and number not in rows]
+    known = known_of(rows)
+    return [number for number in making_rows(outline) if outline.homes[number] == body and number not in known]
 
 
 def making_rows(outline):
@@ -65,8 +65,5 @@ def places_within(facts):
     ways = {}
     for fact in facts:
         if fact[0] == "holds" and fact[1][0] in ("field", "each", "kept"):
-            place = fact[1][1]
-            if place not in ways:
-                ways[place] = []
-            ways[place].append(fact[2][0])
+            add_to(ways, fact[1][1], fact[2][0])
     return ways

@@ -2,6 +2,7 @@
 
 from pointsure.calls import cut_calls
 from pointsure.facts import goes_fact, holds_fact, reach_fact, sorted_once, thing_at
+from pointsure.tables import known_of
 
 
 def cut_fact(fact, fineness):
@@ -26,7 +27,5 @@ def cut_facts(facts, fineness):
 
 def leads(facts, others, fineness):
     """Whether each of the facts, cut, is among the others."""
-    known = {}
-    for fact in others:
-        known[fact] = True
+    known = known_of(others)
     return all([cut_fact(fact, fineness) in known for fact in facts])

@@ -2,6 +2,7 @@
 
 from pointsure.edits import row_otherwise
 from pointsure.solver import Told
+from pointsure.tables import known_of
 
 
 class Keeper:
@@ -35,7 +36,5 @@ class Keeper:
 
 def those_not_in(facts, others):
     """Those of the facts that are not among the others, as they stand."""
-    known = {}
-    for fact in others:
-        known[fact] = True
+    known = known_of(others)
     return [fact for fact in facts if fact not in known]

@@ -1,6 +1,7 @@
 """The forms of the rows of bodies, and what each of their words is [5]; the names of a body [8]."""
 
 from pointsure.kinds import is_method_body, kept_of, params_of
+from pointsure.tables import known_of
 
 # By a row's first word, what the words behind it are. X, Y and A are names; A stands for any number of them.
 FORMS = {
@@ -112,7 +113,4 @@ def body_names(program, body):
     for number in range(program.many_rows()):
         if program.row_body(number) == body:
             names.extend(Row(program.row_words(number)).names)
-    once = {}
-    for name in names:
-        once[name] = True
-    return list(once)
+    return list(known_of(names))

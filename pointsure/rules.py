@@ -7,6 +7,7 @@ from pointsure.facts import (
 from pointsure.kinds import method_body
 from pointsure.outline import Outline
 from pointsure.rows import CALLERS
+from pointsure.tables import add_to, known_of
 
 # Rows that do nothing by themselves, but by each thing that Y holds.
 BY_THINGS = ("take", "put", "push", "pull", "do", "ask", "straight")
@@ -103,13 +104,6 @@ class Place:
     def goal_local(self, goal, x):
         """The name that is x in the body that is called from here."""
         return local_name(goal, self.path_behind, x)
-
-
-def add_to(table, key, one):
-    """One more in the table's list of this key."""
-    if key not in table:
-        table[key] = []
-    table[key].append(one)
 
 
 def tie_row(weave, place):
@@ -237,8 +231,6 @@ def instances(program, fineness, facts):
 
 def lacking(program, fineness, facts):
     """The heads of the facts' instances that are not among the facts, each once, sorted."""
-    known = {}
-    for fact in facts:
-        known[fact] = True
+    known = known_of(facts)
     heads = [instance[0] for instance in instances_by(Outline(program), fineness, facts)]
     return sorted_once([head for head in heads if head not in known])

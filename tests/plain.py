@@ -293,3 +293,94 @@ def plain_told(program, fineness, more=()):
         known |= heads
         if len(known) > 6000 or sum(fact[0] == "reach" for fact in known) > 64:
             return None
+
+
+# Where names stand in a row's words; in some rows all words from one on are names, too.
+NAME_PLACES = {
+    "new": [1], "row": [1], "copy": [1, 2], "take": [1, 2], "put": [1, 3], "push": [1, 2], "pull": [1, 2], "give": [1],
+    "tell": [1], "rest": [], "check": [1], "fresh": [1], "own": [1, 2], "place": [1, 3]}
+HANDED_FROM = {"func": ([1], 3), "do": ([1, 2], 3), "ask": ([1, 2], 4), "straight": ([1, 2], 5), "if": ([], 2),
+               "while": ([], 2)}
+
+
+def plain_names(words):
+    """The names of a row, by the places of point 5."""
+    if words[0] in HANDED_FROM:
+        places, start = HANDED_FROM[words[0]]
+        return [words[place] for place in places] + words[start:]
+    return [words[place] for place in NAME_PLACES[words[0]]]
+
+
+def numbered(program):
+    return [(n, program.row_words(n), program.row_body(n)) for n in range(program.many_rows())]
+
+
+def plain_allowed(program, facts, change):
+    """Point 28, word by word."""
+    r, word, kind = change
+    if not 0 <= r < program.many_rows():
+        return False
+    w, body = program.row_words(r), program.row_body(r)
+    if ("reach", body, ()) not in facts:
+        return False
+
+    def held(where, x):
+        return {fact[2] for fact in facts if fact[0] == "holds" and fact[1] == ("local", where, (), x)}
+
+    if word == "straight":
+        if w[0] != "ask" or f"{kind}.{w[3]}" not in program.bodies():
+            return False
+        makers = [program.row_words(thing[0]) for thing in held(body, w[2])]
+        return all(finds(program, m[2], w[3]) == f"{kind}.{w[3]}" for m in makers if m[0] == "new")
+    if word == "apart" and kind == "" and w[0] == "new":
+        x = w[1]
+        if x in params_of(program, body) + kept_of(program, body) or x == "self" and "." in body:
+            return False
+        for n, v, where in numbered(program):
+            harmless = v == ["tell", x] or v in (["if", "some", x], ["while", "some", x])
+            harmless = harmless or v[0] == "take" and v[2] == x != v[1] or v[0] == "put" and v[1] == x != v[3]
+            if where == body and n != r and x in plain_names(v) and not harmless:
+                return False
+        return True
+    if word == "unread" and kind == "" and w[0] == "put":
+        for n, v, where in numbered(program):
+            if v[0] == "take" and v[3] == w[2] and ("reach", where, ()) in facts and held(where, v[2]) & held(body, w[1]):
+                return False
+        return True
+    return False
+
+
+def plain_changed_rows(program, change):
+    """What rows become, by their numbers."""
+    r, word, kind = change
+    w = program.row_words(r)
+    if word == "straight":
+        return {r: ["straight", w[1], w[2], kind] + w[3:]}
+    if word == "unread":
+        return {r: ["check", w[1], w[2]]}
+    changed = {r: ["fresh", w[1], w[2]]}
+    for n, v, where in numbered(program):
+        if where == program.row_body(r) and v[0] == "take" and v[2] == w[1]:
+            changed[n] = ["own"] + v[1:]
+        if where == program.row_body(r) and v[0] == "put" and v[1] == w[1]:
+            changed[n] = ["place"] + v[1:]
+    return changed
+
+
+def plain_chosen(program, facts):
+    """Point 29."""
+    rows = range(program.many_rows())
+    aparts = [(r, "apart", "") for r in rows if plain_allowed(program, facts, (r, "apart", ""))]
+    changed = {n for change in aparts for n in plain_changed_rows(program, change)}
+    told = list(aparts)
+    for r in rows:
+        if plain_allowed(program, facts, (r, "unread", "")) and r not in changed:
+            told.append((r, "unread", ""))
+        w = program.row_words(r)
+        name = ("local", program.row_body(r), (), w[2] if len(w) > 2 else "")
+        makers = [program.row_words(fact[2][0])[0] for fact in facts if fact[0] == "holds" and fact[1] == name]
+        for body in program.bodies():
+            change = (r, "straight", body.split(".")[0])
+            if "new" in makers and plain_allowed(program, facts, change) and change not in told:
+                told.append(change)
+    return sorted(told)

@@ -47,3 +47,13 @@ class Watched:
         """Of each thing whose call is over: its number, its row, the call's body."""
         rows = [thing[0] for thing in self.machine.things()]
         return [(number, rows[number], body) for number, (body, call) in enumerate(self.makers) if call not in self.stack]
+
+
+def seen_at_each_step(program, inputs, fuel):
+    """Of each step of a run: the calls that stand and where they wait, what is told, the end."""
+    machine = Machine(program, inputs, fuel)
+    seen = []
+    while True:
+        seen.append(([call[:2] for call in machine.calls()], machine.told(), machine.end()))
+        if not machine.step():
+            return seen
